@@ -1,14 +1,11 @@
 package flow
 
-import "toolchest/api"
+import "toolchest/task"
 
-func cat(t *task) {
-	for _, operand := range t.inputs() {
-		for b, e := range t.chunks(operand) {
-			switch {
-			case e != api.OK:
-				t.fail(operand, e)
-			case !t.tell(b):
+func cat(t *task.Task) {
+	for in := range t.Read(t.Operands) {
+		for b := range in.Chunks() {
+			if !t.Tell(b) {
 				return
 			}
 		}

@@ -6,6 +6,7 @@ import (
 
 	"toolchest/api"
 	"toolchest/opt"
+	"toolchest/task"
 	"toolchest/text"
 )
 
@@ -53,40 +54,30 @@ func (c *counter) take(b []byte) {
 
 func partsWords(x byte) bool { return x == 32 || x >= 9 && x <= 13 }
 
-func wc(t *task) {
+func wc(t *task.Task) {
 	var sums counts
-	for _, operand := range t.inputs() {
-		in, e := t.count(operand)
-		if e != api.OK {
-			t.fail(operand, e)
+	for in := range t.Read(t.Operands) {
+		var c counter
+		for b := range in.Chunks() {
+			c.take(b)
+		}
+		if in.Failed() {
 			continue
 		}
-		sums.add(in.counts)
-		if !t.tell(in.line(t.opts, t.textOf(operand)...)) {
+		sums.add(c.counts)
+		if !t.Tell(c.line(t.Opts, textOf(t, in)...)) {
 			return
 		}
 	}
-	if len(t.operands) > 1 {
-		t.tell(sums.line(t.opts, "total"))
+	if len(t.Operands) > 1 {
+		t.Tell(sums.line(t.Opts, "total"))
 	}
-}
-
-// count reads an input to its end; of one that fails nothing counts.
-func (t *task) count(operand string) (counter, api.Errno) {
-	var in counter
-	for b, e := range t.chunks(operand) {
-		if e != api.OK {
-			return counter{}, e
-		}
-		in.take(b)
-	}
-	return in, api.OK
 }
 
 // textOf is an input's text, unless no operand has named it.
-func (t *task) textOf(operand string) []string {
-	if len(t.operands) == 0 {
+func textOf(t *task.Task, in *task.Input) []string {
+	if len(t.Operands) == 0 {
 		return nil
 	}
-	return []string{operand}
+	return []string{in.Text}
 }

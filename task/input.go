@@ -1,0 +1,102 @@
+package task
+
+import (
+	"iter"
+
+	"toolchest/api"
+	"toolchest/stepio"
+)
+
+// Input is an operand that can be opened, while it is its turn to be read.
+type Input struct {
+	Text   string // its operand
+	task   *Task
+	reader *stepio.Reader // nil: it says no bytes
+	failed bool
+}
+
+// Read goes through the inputs of operands (of none: the descriptor 0). One that can't be opened is said, and has no turn. Behind its turn nothing of an input is held any more, and it is closed.
+func (t *Task) Read(operands []string) iter.Seq[*Input] {
+	return func(yield func(*Input) bool) {
+		if len(operands) == 0 {
+			operands = []string{StandardIn}
+		}
+		for _, operand := range operands {
+			if !t.turn(operand, yield) {
+				return
+			}
+		}
+	}
+}
+
+// turn is an input's, in which it is read by what is told whether to go on with the next one.
+func (t *Task) turn(operand string, read func(*Input) bool) bool {
+	if t.isHeard(operand) {
+		return read(&Input{Text: operand, task: t})
+	}
+	fd, e := stepio.Open(t.Proc, operand)
+	if e != api.OK {
+		t.Fail(operand, e)
+		return true
+	}
+	in := &Input{Text: operand, task: t, reader: stepio.New(t.Proc, fd)}
+	goesOn := read(in)
+	in.reader.Free()
+	stepio.Close(t.Proc, fd)
+	return goesOn
+}
+
+// isHeard tells whether an input has said all that it says: where the descriptor 0 is one twice, it says no bytes the second time, even if it has failed the first time and might go on.
+func (t *Task) isHeard(operand string) bool {
+	if operand != StandardIn {
+		return false
+	}
+	was := t.heard
+	t.heard = true
+	return was
+}
+
+// Chunks are the bytes that it says, as they are read. If it fails, that is said, and it is as if it ended there.
+func (in *Input) Chunks() iter.Seq[[]byte] {
+	return func(yield func([]byte) bool) {
+		for in.reader != nil {
+			b, e := in.reader.Chunk()
+			if in.fails(e) || len(b) == 0 || !yield(b) {
+				return
+			}
+		}
+	}
+}
+
+// Lines are its lines, each without its line feed, and whether it had one. If it fails, that is said, and it is as if it ended ahead of the line that can't be read to its end.
+func (in *Input) Lines() iter.Seq2[[]byte, bool] {
+	return func(yield func([]byte, bool) bool) {
+		for in.reader != nil {
+			line, ok, e := in.reader.Line()
+			if in.fails(e) || !ok || !yield(line, in.reader.Feed()) {
+				return
+			}
+		}
+	}
+}
+
+// IsReadable looks whether there is another byte, or the end; false: neither, and that was said.
+func (in *Input) IsReadable() bool {
+	if in.reader == nil {
+		return true
+	}
+	_, e := in.reader.More()
+	return !in.fails(e)
+}
+
+// Failed tells whether something was said of it.
+func (in *Input) Failed() bool { return in.failed }
+
+func (in *Input) fails(e api.Errno) bool {
+	if e == api.OK {
+		return false
+	}
+	in.task.Fail(in.Text, e)
+	in.failed = true
+	return true
+}

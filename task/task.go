@@ -1,0 +1,81 @@
+// Package task is what utilities have in common: a name by which they start, options and operands, and the usual failures (shared/doc/05-stepio.md).
+package task
+
+import (
+	"toolchest/api"
+	"toolchest/opt"
+	"toolchest/proc"
+	"toolchest/stepio"
+)
+
+// What stands for the descriptors 0 and 1 where an operand does.
+const (
+	StandardIn  = "-"
+	StandardOut = "standard output"
+)
+
+// FdOut is the descriptor that is told.
+const FdOut = 1
+
+const statusFailed = 1
+
+// Utility is what a process of one name does.
+type Utility struct {
+	Spec string // of its options, as opt reads it
+	Do   func(t *Task)
+}
+
+// Task is a utility's process with its arguments, and the status that it comes to.
+type Task struct {
+	Proc     *proc.Proc
+	Opts     []api.Opt
+	Operands []string
+	status   int
+	heard    bool // the descriptor 0 was an input
+}
+
+// Start runs a process by its name among those of utilities; nil, if it is none of them.
+func Start(p *proc.Proc, utilities map[string]Utility) *proc.Machine {
+	args := p.Args()
+	if len(args) == 0 {
+		return nil
+	}
+	u, ok := utilities[args[0]]
+	if !ok {
+		return nil
+	}
+	return proc.Go(p, u.main)
+}
+
+// main makes its task anew, since it may be gone through more than once.
+func (u Utility) main(p *proc.Proc) int {
+	opts, operands, e := opt.Parse(p.Args()[1:], u.Spec)
+	t := &Task{Proc: p, Opts: opts, Operands: operands}
+	if e != api.OK {
+		t.Refuse()
+		return t.status
+	}
+	u.Do(t)
+	return t.status
+}
+
+// Fail says what went wrong, for which the status is not 0 in the end.
+func (t *Task) Fail(operand string, e api.Errno) {
+	stepio.Say(t.Proc, operand, e)
+	t.status = statusFailed
+}
+
+// Refuse says that the options or the operands may not be.
+func (t *Task) Refuse() { t.Fail("", api.ErrUsage) }
+
+// Write writes all bytes to a descriptor, of which is spoken by a name; false: it can't be written to, and that was said.
+func (t *Task) Write(fd int, name string, b []byte) bool {
+	e := stepio.Write(t.Proc, fd, b)
+	if e != api.OK {
+		t.Fail(name, e)
+	}
+	return e == api.OK
+}
+
+// Tell is Write, to the descriptor 1.
+func (t *Task) Tell(b []byte) bool { return t.Write(FdOut, StandardOut, b) }

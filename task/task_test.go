@@ -1,0 +1,147 @@
+package task_test
+
+import (
+	"strings"
+	"testing"
+
+	"toolchest/api"
+	"toolchest/opt"
+	"toolchest/proc"
+	"toolchest/task"
+)
+
+// starts is what starts one utility, `u`, with the letters a and b, of which b has an argument.
+func starts(do func(t *task.Task)) func(p *proc.Proc) *proc.Machine {
+	return func(p *proc.Proc) *proc.Machine {
+		return task.Start(p, map[string]task.Utility{"u": {Spec: "ab:", Do: do}})
+	}
+}
+
+// comes runs a job of a line of arguments, with a few files (of /l a line is too long) and the directory /d, and fails, if something else comes of it.
+func comes(t *testing.T, do func(t *task.Task), faults []api.Fault, args, out, errs string, status int) api.Result {
+	t.Helper()
+	r, ok := proc.Run(api.Job{
+		Args:   strings.Fields(args),
+		In:     []byte("a\n\nbcd"),
+		Nodes:  []api.Node{{Path: "/d", Dir: true}, {Path: "/e"}, {Path: "/f", Data: []byte("one\ntwo")}, {Path: "/l", Data: []byte("p\nfour\nq\n")}},
+		Lim:    api.Limits{Buf: 2, Line: 3, Run: 3},
+		Faults: faults,
+	}, starts(do))
+	if !ok || string(r.Out) != out || string(r.Err) != errs || r.Status != status {
+		t.Errorf("%s, faults %v: %v, told %q, said %q, %d, not %q, %q, %d", args, faults, ok, r.Out, r.Err, r.Status, out, errs, status)
+	}
+	return r
+}
+
+func TestStart(t *testing.T) {
+	for _, args := range [][]string{nil, {""}, {"v"}, {"uu"}, {"x", "u"}} {
+		j := api.Job{Args: args, Lim: api.Limits{Buf: 1, Line: 1, Run: 1}}
+		if _, ok := proc.Run(j, starts(func(*task.Task) {})); ok {
+			t.Errorf("%q was run", args)
+		}
+	}
+}
+
+func TestArguments(t *testing.T) {
+	do := func(t *task.Task) {
+		arg, _ := opt.Last(t.Opts, 'b')
+		t.Tell([]byte(arg + "|" + strings.Join(t.Operands, ",")))
+	}
+	comes(t, do, nil, "u", "|", "", 0)
+	comes(t, do, nil, "u -a -b 1 x y", "1|x,y", "", 0)
+	comes(t, do, nil, "u -b1 -- -a", "1|-a", "", 0)
+	comes(t, do, nil, "u -c", "", "u: usage\n", 1)
+	comes(t, do, nil, "u -b", "", "u: usage\n", 1)
+	comes(t, (*task.Task).Refuse, nil, "u", "", "u: usage\n", 1)
+}
+
+// titles tells of each input its text, and its pieces as they come.
+func titles(t *task.Task, pieces func(in *task.Input)) {
+	for in := range t.Read(t.Operands) {
+		t.Tell([]byte(in.Text + ":"))
+		pieces(in)
+		if in.Failed() {
+			t.Tell([]byte("!"))
+		}
+	}
+}
+
+func chunks(t *task.Task) {
+	titles(t, func(in *task.Input) {
+		for b := range in.Chunks() {
+			t.Tell(append(b, '|'))
+		}
+	})
+}
+
+func lines(t *task.Task) {
+	titles(t, func(in *task.Input) {
+		for line, hasFeed := range in.Lines() {
+			end := byte('.')
+			if hasFeed {
+				end = '$'
+			}
+			t.Tell(append(line, end))
+		}
+	})
+}
+
+func TestInputs(t *testing.T) {
+	comes(t, chunks, nil, "u", "-:a\n|\nb|cd|", "", 0)
+	comes(t, chunks, nil, "u f e - -", "f:on|e\n|tw|o|e:-:a\n|\nb|cd|-:", "", 0)
+	comes(t, chunks, nil, "u x d e f/x", "d:!e:", "u: x: no such file\nu: d: is a directory\nu: f/x: not a directory\n", 1)
+	comes(t, lines, nil, "u", "-:a$$bcd.", "", 0)
+	comes(t, lines, nil, "u f e -", "f:one$two.e:-:a$$bcd.", "", 0)
+	comes(t, lines, nil, "u x - -", "-:a$$bcd.-:", "u: x: no such file\n", 1)
+}
+
+func TestInputsThatFail(t *testing.T) {
+	faults := []api.Fault{{}, {}, {}, {Kind: api.FaultIO}}
+	comes(t, chunks, faults, "u e -", "e:-:!", "u: -: input/output error\n", 1)
+	comes(t, chunks, faults, "u - e -", "-:a\n|!e:-:", "u: -: input/output error\n", 1)
+	comes(t, lines, faults[1:], "u f", "f:!", "u: f: input/output error\n", 1)
+	comes(t, lines, nil, "u l e", "l:p$!e:", "u: l: line too long\n", 1)
+}
+
+// An input is read on from where it was looked at.
+func TestReadable(t *testing.T) {
+	do := func(t *task.Task) {
+		for in := range t.Read(t.Operands) {
+			if in.IsReadable() && in.IsReadable() {
+				t.Tell([]byte(in.Text + ":"))
+				for b := range in.Chunks() {
+					t.Tell(b)
+				}
+			}
+		}
+	}
+	comes(t, do, nil, "u e f", "e:f:one\ntwo", "", 0)
+	comes(t, do, nil, "u - d f -", "-:a\n\nbcdf:one\ntwo-:", "u: d: is a directory\n", 1)
+	comes(t, do, []api.Fault{{Kind: api.FaultIO}}, "u f e", "e:", "u: f: input/output error\n", 1)
+}
+
+// An input that is left ahead of its end is held no more, and closed; others come behind it.
+func TestInputsThatAreLeft(t *testing.T) {
+	do := func(t *task.Task) {
+		for in := range t.Read(t.Operands) {
+			for b := range in.Chunks() {
+				t.Tell(b)
+				break
+			}
+		}
+	}
+	if r := comes(t, do, nil, "u"+strings.Repeat(" f", 30), strings.Repeat("on", 30), "", 0); r.Peak != 2 {
+		t.Errorf("%d bytes were held", r.Peak)
+	}
+}
+
+// Outputs that fail are said by their names.
+func TestOutputs(t *testing.T) {
+	do := func(t *task.Task) {
+		t.Tell(nil)
+		t.Write(7, "seven", []byte("x"))
+		t.Tell([]byte("y"))
+	}
+	comes(t, do, nil, "u", "y", "u: seven: bad descriptor\n", 1)
+	comes(t, do, []api.Fault{{}, {Kind: api.FaultSpace}}, "u", "", "u: seven: bad descriptor\nu: standard output: no space left\n", 1)
+}
