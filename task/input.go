@@ -7,21 +7,47 @@ import (
 	"toolchest/stepio"
 )
 
-// Input is an operand that can be opened, while it is its turn to be read.
+// Input is an operand that is read.
 type Input struct {
 	Text   string // its operand
 	task   *Task
+	fd     int
 	reader *stepio.Reader // nil: it says no bytes
 	failed bool
+}
+
+// Inputs are the operands that are read: of none the descriptor 0.
+func Inputs(operands []string) []string {
+	if len(operands) == 0 {
+		return []string{StandardIn}
+	}
+	return operands
+}
+
+// Open opens an input. One that can't be opened is said; it has failed, and says no bytes.
+func (t *Task) Open(operand string) *Input {
+	in := &Input{Text: operand, task: t}
+	fd, e := stepio.Open(t.Proc, operand)
+	if !in.fails(e) {
+		in.fd, in.reader = fd, stepio.New(t.Proc, fd)
+	}
+	return in
+}
+
+// Close closes it: nothing is held of it, and it says no bytes any more.
+func (in *Input) Close() {
+	if in.reader == nil {
+		return
+	}
+	in.reader.Free()
+	in.reader = nil
+	stepio.Close(in.task.Proc, in.fd)
 }
 
 // Read goes through the inputs of operands (of none: the descriptor 0). One that can't be opened is said, and has no turn. Behind its turn nothing of an input is held any more, and it is closed.
 func (t *Task) Read(operands []string) iter.Seq[*Input] {
 	return func(yield func(*Input) bool) {
-		if len(operands) == 0 {
-			operands = []string{StandardIn}
-		}
-		for _, operand := range operands {
+		for _, operand := range Inputs(operands) {
 			if !t.turn(operand, yield) {
 				return
 			}
@@ -34,15 +60,12 @@ func (t *Task) turn(operand string, read func(*Input) bool) bool {
 	if t.isHeard(operand) {
 		return read(&Input{Text: operand, task: t})
 	}
-	fd, e := stepio.Open(t.Proc, operand)
-	if e != api.OK {
-		t.Fail(operand, e)
+	in := t.Open(operand)
+	if in.failed {
 		return true
 	}
-	in := &Input{Text: operand, task: t, reader: stepio.New(t.Proc, fd)}
 	goesOn := read(in)
-	in.reader.Free()
-	stepio.Close(t.Proc, fd)
+	in.Close()
 	return goesOn
 }
 
@@ -71,13 +94,25 @@ func (in *Input) Chunks() iter.Seq[[]byte] {
 // Lines are its lines, each without its line feed, and whether it had one. If it fails, that is said, and it is as if it ended ahead of the line that can't be read to its end.
 func (in *Input) Lines() iter.Seq2[[]byte, bool] {
 	return func(yield func([]byte, bool) bool) {
-		for in.reader != nil {
-			line, ok, e := in.reader.Line()
-			if in.fails(e) || !ok || !yield(line, in.reader.Feed()) {
+		for {
+			line, ok := in.Line()
+			if !ok || !yield(line, in.reader.Feed()) {
 				return
 			}
 		}
 	}
+}
+
+// Line is the next one of its lines; false: there is none any more.
+func (in *Input) Line() ([]byte, bool) {
+	if in.reader == nil || in.failed {
+		return nil, false
+	}
+	line, ok, e := in.reader.Line()
+	if in.fails(e) {
+		return nil, false
+	}
+	return line, ok
 }
 
 // IsReadable looks whether there is another byte, or the end; false: neither, and that was said.

@@ -135,6 +135,67 @@ func TestInputsThatAreLeft(t *testing.T) {
 	}
 }
 
+// rows tells of inputs that are open at once three lines each, in turn, and of each whether it has failed.
+func rows(t *task.Task) {
+	var inputs []*task.Input
+	for _, operand := range task.Inputs(t.Operands) {
+		inputs = append(inputs, t.Open(operand))
+	}
+	for range 3 {
+		for _, in := range inputs {
+			line, ok := in.Line()
+			end := byte('.')
+			if ok {
+				end = '$'
+			}
+			t.Tell(append(line, end))
+		}
+	}
+	for _, in := range inputs {
+		if in.Failed() {
+			t.Tell([]byte(in.Text + "!"))
+		}
+		in.Close()
+	}
+}
+
+func TestInputsAtOnce(t *testing.T) {
+	comes(t, rows, nil, "u", "a$$bcd$", "", 0)
+	comes(t, rows, nil, "u f e -", "one$.a$two$.$..bcd$", "", 0)
+	comes(t, rows, nil, "u x f", ".one$.two$..x!", "u: x: no such file\n", 1)
+	comes(t, rows, nil, "u d l f", ".p$one$..two$...d!l!", "u: d: is a directory\nu: l: line too long\n", 1)
+	// One that has failed is not read on, though it might be.
+	faults := []api.Fault{{Kind: api.FaultIO}}
+	comes(t, rows, faults, "u -", "...-!", "u: -: input/output error\n", 1)
+	many := strings.Repeat(" e", 13)
+	comes(t, rows, nil, "u"+many+" f -", strings.Repeat(".", 13)+".a$"+strings.Repeat(".", 13)+".$"+strings.Repeat(".", 13)+".bcd$f!", "u: f: too many\n", 1)
+}
+
+// One that is closed is held no more, and says nothing; its descriptor is free.
+func TestClose(t *testing.T) {
+	do := func(t *task.Task) {
+		for range 30 {
+			in := t.Open("f")
+			in.Line()
+			in.Close()
+			in.Close()
+			if _, ok := in.Line(); ok || !in.IsReadable() {
+				t.Tell([]byte("?"))
+			}
+			for range in.Chunks() {
+				t.Tell([]byte("?"))
+			}
+		}
+		in := t.Open("-")
+		in.Close()
+		line, _ := t.Open("-").Line() // the descriptor 0 stays open
+		t.Tell(line)
+	}
+	if r := comes(t, do, nil, "u", "a", "", 0); r.Peak > 5 {
+		t.Errorf("%d bytes were held", r.Peak)
+	}
+}
+
 // Outputs that fail are said by their names.
 func TestOutputs(t *testing.T) {
 	do := func(t *task.Task) {
