@@ -115,6 +115,21 @@ func (in *Input) Line() ([]byte, bool) {
 	return line, ok
 }
 
+// Bytes are the next ones that it says, at most so many, for whoever tells by itself what is held of them, and how far is read: with these neither lines nor chunks are read of it. None: it has ended, or failed, and that was said.
+func (in *Input) Bytes(most int) []byte {
+	if in.reader == nil || in.failed {
+		return nil
+	}
+	b, e := in.task.Proc.Read(in.fd, most)
+	for e == api.ErrIntr {
+		b, e = in.task.Proc.Read(in.fd, most)
+	}
+	if in.fails(e) {
+		return nil
+	}
+	return b
+}
+
 // IsReadable looks whether there is another byte, or the end; false: neither, and that was said.
 func (in *Input) IsReadable() bool {
 	if in.reader == nil {
@@ -123,6 +138,9 @@ func (in *Input) IsReadable() bool {
 	_, e := in.reader.More()
 	return !in.fails(e)
 }
+
+// Fail says what is wrong with what was read of it: it has ended there.
+func (in *Input) Fail(e api.Errno) { in.fails(e) }
 
 // Failed tells whether something was said of it.
 func (in *Input) Failed() bool { return in.failed }

@@ -2,6 +2,8 @@
 package task
 
 import (
+	"cmp"
+
 	"toolchest/api"
 	"toolchest/opt"
 	"toolchest/proc"
@@ -21,8 +23,9 @@ const statusFailed = 1
 
 // Utility is what a process of one name does.
 type Utility struct {
-	Spec string // of its options, as opt reads it
-	Do   func(t *Task)
+	Spec   string // of its options, as opt reads it
+	Do     func(t *Task)
+	Failed int // the status to which failures let it come; 0: the usual one
 }
 
 // Task is a utility's process with its arguments, and the status that it comes to.
@@ -30,7 +33,8 @@ type Task struct {
 	Proc     *proc.Proc
 	Opts     []api.Opt
 	Operands []string
-	status   int
+	Status   int
+	failed   int  // the status to which failures let it come
 	heard    bool // the descriptor 0 was an input
 }
 
@@ -50,19 +54,19 @@ func Start(p *proc.Proc, utilities map[string]Utility) *proc.Machine {
 // main makes its task anew, since it may be gone through more than once.
 func (u Utility) main(p *proc.Proc) int {
 	opts, operands, e := opt.Parse(p.Args()[1:], u.Spec)
-	t := &Task{Proc: p, Opts: opts, Operands: operands}
+	t := &Task{Proc: p, Opts: opts, Operands: operands, failed: cmp.Or(u.Failed, statusFailed)}
 	if e != api.OK {
 		t.Refuse()
-		return t.status
+		return t.Status
 	}
 	u.Do(t)
-	return t.status
+	return t.Status
 }
 
 // Fail says what went wrong, for which the status is not 0 in the end.
 func (t *Task) Fail(operand string, e api.Errno) {
 	stepio.Say(t.Proc, operand, e)
-	t.status = statusFailed
+	t.Status = t.failed
 }
 
 // Refuse says that the options or the operands may not be.

@@ -171,6 +171,66 @@ func TestInputsAtOnce(t *testing.T) {
 	comes(t, rows, nil, "u"+many+" f -", strings.Repeat(".", 13)+".a$"+strings.Repeat(".", 13)+".$"+strings.Repeat(".", 13)+".bcd$f!", "u: f: too many\n", 1)
 }
 
+// bytesOf tells an input's bytes, by so many at most, and whether it has failed; a piece that begins with `t` is taken for a line that is too long.
+func bytesOf(most int) func(t *task.Task) {
+	return func(t *task.Task) {
+		for in := range t.Read(t.Operands) {
+			t.Tell([]byte(in.Text + ":"))
+			for b := in.Bytes(most); len(b) > 0; b = in.Bytes(most) {
+				t.Tell(append(b, '|'))
+				if b[0] == 't' {
+					in.Fail(api.ErrLine)
+				}
+			}
+			if in.Failed() {
+				t.Tell([]byte("!"))
+			}
+		}
+	}
+}
+
+// Whoever reads bytes reads no further than it asks for, and holds nothing but what it says that it holds.
+func TestBytes(t *testing.T) {
+	r := comes(t, bytesOf(1), nil, "u - e -", "-:a|\n|\n|b|c|d|e:-:", "", 0)
+	if r.Peak != 0 {
+		t.Errorf("%d bytes were held", r.Peak)
+	}
+	comes(t, bytesOf(3), nil, "u -", "-:a\n\n|bcd|", "", 0)
+	comes(t, bytesOf(100), nil, "u -", "-:a\n\nbcd|", "", 0)
+	comes(t, bytesOf(3), []api.Fault{{}, {Kind: api.FaultIntr}, {Kind: api.FaultShort, N: 1}}, "u -", "-:a|\n\nb|cd|", "", 0)
+	// One that fails, whoever says so, has ended.
+	comes(t, bytesOf(4), nil, "u f d x e", "f:one\n|two|!d:!e:", "u: f: line too long\nu: d: is a directory\nu: x: no such file\n", 1)
+	comes(t, bytesOf(1), nil, "u f", "f:o|n|e|\n|t|!", "u: f: line too long\n", 1)
+	comes(t, bytesOf(2), []api.Fault{{}, {}, {}, {Kind: api.FaultIO}}, "u -", "-:a\n|!", "u: -: input/output error\n", 1)
+	comes(t, bytesOf(0), nil, "u f", "f:!", "u: f: invalid\n", 1)
+}
+
+// A utility has its own status of failures, and may come to any other one.
+func TestStatuses(t *testing.T) {
+	for _, c := range []struct {
+		args   string
+		do     func(t *task.Task)
+		status int
+	}{
+		{"u", func(*task.Task) {}, 0},
+		{"u -x", func(*task.Task) {}, 5},
+		{"u", (*task.Task).Refuse, 5},
+		{"u x", chunks, 5},
+		{"u", func(t *task.Task) { t.Write(7, "seven", []byte("x")) }, 5},
+		{"u", func(t *task.Task) { t.Status = 1 }, 1},
+		{"u", func(t *task.Task) { t.Status = 1; t.Fail("", api.ErrIO) }, 5},
+		{"u", func(t *task.Task) { t.Fail("", api.ErrIO); t.Status = 1 }, 1},
+	} {
+		j := api.Job{Args: strings.Fields(c.args), Lim: api.Limits{Buf: 1, Line: 1, Run: 1}}
+		r, ok := proc.Run(j, func(p *proc.Proc) *proc.Machine {
+			return task.Start(p, map[string]task.Utility{"u": {Do: c.do, Failed: 5}})
+		})
+		if !ok || r.Status != c.status {
+			t.Errorf("%s: %v, %d, not %d", c.args, ok, r.Status, c.status)
+		}
+	}
+}
+
 // One that is closed is held no more, and says nothing; its descriptor is free.
 func TestClose(t *testing.T) {
 	do := func(t *task.Task) {
