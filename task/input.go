@@ -142,14 +142,17 @@ func (in *Input) IsReadable() bool {
 // Fail says what is wrong with what was read of it: it has ended there.
 func (in *Input) Fail(e api.Errno) { in.fails(e) }
 
-// Failed tells whether something was said of it.
+// Failed tells whether something of it has failed.
 func (in *Input) Failed() bool { return in.failed }
 
 func (in *Input) fails(e api.Errno) bool {
 	if e == api.OK {
 		return false
 	}
-	in.task.Fail(in.Text, e)
+	if !in.task.Silent {
+		stepio.Say(in.task.Proc, in.Text, e)
+	}
+	in.task.Status = in.task.failed
 	in.failed = true
 	return true
 }

@@ -34,6 +34,7 @@ type Task struct {
 	Opts     []api.Opt
 	Operands []string
 	Status   int
+	Silent   bool // what fails of inputs is not said
 	failed   int  // the status to which failures let it come
 	heard    bool // the descriptor 0 was an input
 }

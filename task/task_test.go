@@ -103,6 +103,26 @@ func TestInputsThatFail(t *testing.T) {
 	comes(t, lines, nil, "u l e", "l:p$!e:", "u: l: line too long\n", 1)
 }
 
+// One that is silent says nothing of what fails of inputs, but of all else.
+func TestSilent(t *testing.T) {
+	silent := func(do func(t *task.Task)) func(t *task.Task) {
+		return func(t *task.Task) {
+			t.Silent = true
+			do(t)
+		}
+	}
+	faults := []api.Fault{{}, {}, {}, {Kind: api.FaultIO}}
+	comes(t, silent(chunks), nil, "u x d e f/x", "d:!e:", "", 1)
+	comes(t, silent(lines), nil, "u l e", "l:p$!e:", "", 1)
+	comes(t, silent(chunks), faults, "u - e -", "-:a\n|!e:-:", "", 1)
+	comes(t, silent(rows), nil, "u d l f", ".p$one$..two$...d!l!", "", 1)
+	comes(t, silent(bytesOf(1)), nil, "u f", "f:o|n|e|\n|t|!", "", 1)
+	comes(t, silent(func(t *task.Task) { t.Fail("x", api.ErrIO) }), nil, "u", "", "u: x: input/output error\n", 1)
+	comes(t, silent((*task.Task).Refuse), nil, "u", "", "u: usage\n", 1)
+	tell := func(t *task.Task) { t.Tell([]byte("y")) }
+	comes(t, silent(tell), []api.Fault{{Kind: api.FaultSpace}}, "u", "", "u: standard output: no space left\n", 1)
+}
+
 // An input is read on from where it was looked at.
 func TestReadable(t *testing.T) {
 	do := func(t *task.Task) {
