@@ -34,12 +34,30 @@ func (t *Task) Open(operand string) *Input {
 	return in
 }
 
+// OpenInTurn is Open, of one of inputs that are read one behind the other: where the descriptor 0 is one twice, it says no bytes the second time, even if it has failed the first time and might go on.
+func (t *Task) OpenInTurn(operand string) *Input {
+	if operand == StandardIn {
+		if t.heard {
+			return &Input{Text: operand, task: t}
+		}
+		t.heard = true
+	}
+	return t.Open(operand)
+}
+
+// Free lets go what is held of it, for whoever holds by itself what it keeps of it while it is closed.
+func (in *Input) Free() {
+	if in.reader != nil {
+		in.reader.Free()
+	}
+}
+
 // Close closes it: nothing is held of it, and it says no bytes any more.
 func (in *Input) Close() {
 	if in.reader == nil {
 		return
 	}
-	in.reader.Free()
+	in.Free()
 	in.reader = nil
 	stepio.Close(in.task.Proc, in.fd)
 }
@@ -57,26 +75,13 @@ func (t *Task) Read(operands []string) iter.Seq[*Input] {
 
 // turn is an input's, in which it is read by what is told whether to go on with the next one.
 func (t *Task) turn(operand string, read func(*Input) bool) bool {
-	if t.isHeard(operand) {
-		return read(&Input{Text: operand, task: t})
-	}
-	in := t.Open(operand)
+	in := t.OpenInTurn(operand)
 	if in.failed {
 		return true
 	}
 	goesOn := read(in)
 	in.Close()
 	return goesOn
-}
-
-// isHeard tells whether an input has said all that it says: where the descriptor 0 is one twice, it says no bytes the second time, even if it has failed the first time and might go on.
-func (t *Task) isHeard(operand string) bool {
-	if operand != StandardIn {
-		return false
-	}
-	was := t.heard
-	t.heard = true
-	return was
 }
 
 // Chunks are the bytes that it says, as they are read. If it fails, that is said, and it is as if it ended there.
@@ -137,6 +142,15 @@ func (in *Input) IsReadable() bool {
 	}
 	_, e := in.reader.More()
 	return !in.fails(e)
+}
+
+// HasMore tells whether there is another byte. One that fails there is said, and has none.
+func (in *Input) HasMore() bool {
+	if in.reader == nil || in.failed {
+		return false
+	}
+	more, e := in.reader.More()
+	return !in.fails(e) && more
 }
 
 // Fail says what is wrong with what was read of it: it has ended there.

@@ -276,6 +276,88 @@ func TestClose(t *testing.T) {
 	}
 }
 
+// asOne tells the lines of inputs one behind the other, each behind a sign that says whether there is one more.
+func asOne(t *task.Task) {
+	in := &task.Input{}
+	left := task.Inputs(t.Operands)
+	hasMore := func() bool {
+		for !in.HasMore() {
+			in.Close()
+			if len(left) == 0 {
+				return false
+			}
+			in, left = t.OpenInTurn(left[0]), left[1:]
+		}
+		return true
+	}
+	for hasMore() {
+		line, ok := in.Line()
+		if !ok {
+			continue
+		}
+		sign := "."
+		line = append([]byte(nil), line...)
+		if hasMore() {
+			sign = ","
+		}
+		t.Tell(append(line, sign...))
+	}
+}
+
+// An input is looked at ahead of its next line; where the descriptor 0 is one twice, it has no byte the second time, even if it might go on.
+func TestHasMore(t *testing.T) {
+	comes(t, asOne, nil, "u", "a,,bcd.", "", 0)
+	comes(t, asOne, nil, "u -", "a,,bcd.", "", 0)
+	comes(t, asOne, nil, "u e", "", "", 0)
+	comes(t, asOne, nil, "u f e - e e", "one,two,a,,bcd.", "", 0)
+	comes(t, asOne, nil, "u e - - f", "a,,bcd,one,two.", "", 0)
+	comes(t, asOne, nil, "u x f d", "one,two.", "u: x: no such file\nu: d: is a directory\n", 1)
+	comes(t, asOne, nil, "u l x", "p,", "u: l: line too long\nu: x: no such file\n", 1)
+	comes(t, asOne, nil, "u l f", "p,one,two.", "u: l: line too long\n", 1)
+	comes(t, asOne, []api.Fault{{Kind: api.FaultIO}}, "u - - f", "one,two.", "u: -: input/output error\n", 1)
+	comes(t, asOne, []api.Fault{{}, {Kind: api.FaultIO}}, "u - - f", "a,one,two.", "u: -: input/output error\n", 1)
+	comes(t, asOne, []api.Fault{{Kind: api.FaultIntr}, {Kind: api.FaultShort, N: 1}}, "u", "a,,bcd.", "", 0)
+	silent := func(t *task.Task) {
+		t.Silent = true
+		asOne(t)
+	}
+	comes(t, silent, []api.Fault{{Kind: api.FaultIO}}, "u - x f", "one,two.", "", 1)
+	if r := comes(t, asOne, nil, "u"+strings.Repeat(" f", 30), strings.Repeat("one,two,", 29)+"one,two.", "", 0); r.Peak > 5 {
+		t.Errorf("%d bytes were held", r.Peak)
+	}
+	none := func(t *task.Task) {
+		for range 2 {
+			in := t.OpenInTurn("-")
+			line, _ := in.Line()
+			t.Tell(append(line, '|'))
+			in.Close()
+			if in.HasMore() || in.Failed() {
+				t.Tell([]byte("?"))
+			}
+		}
+	}
+	comes(t, none, nil, "u", "a||", "", 0)
+}
+
+// One that is free holds nothing; what is held of it instead is told by whoever keeps it.
+func TestFree(t *testing.T) {
+	do := func(t *task.Task) {
+		in := t.Open("f")
+		line, _ := in.Line()
+		n := len(line)
+		in.Line()
+		in.HasMore()
+		in.Free()
+		in.Free()
+		t.Proc.Hold(n)
+		in.Close()
+		in.Free()
+	}
+	if r := comes(t, do, nil, "u", "", "", 0); r.Peak > 5 {
+		t.Errorf("%d bytes were held", r.Peak)
+	}
+}
+
 // Outputs that fail are said by their names.
 func TestOutputs(t *testing.T) {
 	do := func(t *task.Task) {
