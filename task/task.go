@@ -24,6 +24,7 @@ const statusFailed = 1
 // Utility is what a process of one name does.
 type Utility struct {
 	Spec   string // of its options, as opt reads it
+	Plain  bool   // it has no options: its arguments are all operands
 	Do     func(t *Task)
 	Failed int // the status to which failures let it come; 0: the usual one
 }
@@ -54,7 +55,7 @@ func Start(p *proc.Proc, utilities map[string]Utility) *proc.Machine {
 
 // main makes its task anew, since it may be gone through more than once.
 func (u Utility) main(p *proc.Proc) int {
-	opts, operands, e := opt.Parse(p.Args()[1:], u.Spec)
+	opts, operands, e := u.parted(p.Args()[1:])
 	t := &Task{Proc: p, Opts: opts, Operands: operands, failed: cmp.Or(u.Failed, statusFailed)}
 	if e != api.OK {
 		t.Refuse()
@@ -62,6 +63,13 @@ func (u Utility) main(p *proc.Proc) int {
 	}
 	u.Do(t)
 	return t.Status
+}
+
+func (u Utility) parted(args []string) ([]api.Opt, []string, api.Errno) {
+	if u.Plain {
+		return nil, args, api.OK
+	}
+	return opt.Parse(args, u.Spec)
 }
 
 // Fail says what went wrong, for which the status is not 0 in the end.

@@ -1,6 +1,7 @@
 package task_test
 
 import (
+	"strconv"
 	"strings"
 	"testing"
 
@@ -53,6 +54,28 @@ func TestArguments(t *testing.T) {
 	comes(t, do, nil, "u -c", "", "u: usage\n", 1)
 	comes(t, do, nil, "u -b", "", "u: usage\n", 1)
 	comes(t, (*task.Task).Refuse, nil, "u", "", "u: usage\n", 1)
+}
+
+// One that is plain has no options, whatever its arguments look like.
+func TestPlain(t *testing.T) {
+	do := func(t *task.Task) {
+		t.Tell([]byte(strconv.Itoa(len(t.Opts)) + "|" + strings.Join(t.Operands, ",")))
+	}
+	start := func(p *proc.Proc) *proc.Machine {
+		return task.Start(p, map[string]task.Utility{"u": {Spec: "ab:", Plain: true, Do: do}, "v": {Spec: "ab:", Do: do}})
+	}
+	for args, out := range map[string]string{
+		"u":               "0|",
+		"u x":             "0|x",
+		"u -a -b -- -c -": "0|-a,-b,--,-c,-",
+		"u -- -a":         "0|--,-a",
+		"v -a -b1 -- -c":  "2|-c",
+	} {
+		r, ok := proc.Run(api.Job{Args: strings.Fields(args), Lim: api.Limits{Buf: 1, Line: 1, Run: 1}}, start)
+		if !ok || string(r.Out) != out || len(r.Err) != 0 || r.Status != 0 {
+			t.Errorf("%s: %v, told %q, said %q, %d, not %q", args, ok, r.Out, r.Err, r.Status, out)
+		}
+	}
 }
 
 // titles tells of each input its text, and its pieces as they come.
